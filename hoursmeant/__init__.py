@@ -1,0 +1,1 @@
+"""Hoursmeant: programs that carry times between moments and clock readings."""

@@ -1,0 +1,186 @@
+"""The rules of LANGUAGE.md that a look at the syntax can tell, for each file of the package."""
+
+import ast
+import builtins
+import io
+import re
+import tokenize
+import unittest
+import warnings
+from pathlib import Path
+
+PACKAGE = Path(__file__).resolve().parent.parent / "hoursmeant"
+FILES = sorted(path for path in PACKAGE.rglob("*") if path.is_file() and path.suffix != ".pyc")
+
+BUILTINS = set(
+    "len range enumerate zip min max sum abs sorted reversed int str bool list tuple dict set isinstance"
+    " ord repr any all divmod super property Exception ValueError TypeError KeyError NotImplemented".split()
+)
+METHODS = set(
+    "append clear copy count endswith extend find get index insert isalnum isalpha isdigit islower isspace"
+    " isupper items join keys ljust lower lstrip partition pop remove replace reverse rfind rjust rpartition"
+    " rsplit rstrip setdefault split splitlines startswith strip update upper values zfill bit_length".split()
+)
+DOUBLE = set("__init__ __eq__ __len__ __iter__ __getitem__ __contains__ __or__".split())
+BARRED_NODES = (
+    ast.Global, ast.AsyncFunctionDef, ast.AsyncFor, ast.AsyncWith, ast.Await, ast.Div, ast.MatMult, ast.Set,
+    ast.SetComp, ast.GeneratorExp, ast.Import, ast.TryStar, ast.Lambda,
+)
+BARRED_WORDS = (
+    "type typing typing_extensions enum Enum IntEnum StrEnum Flag IntFlag Generic Protocol ABC ABCMeta namedtuple"
+    " NamedTuple TypedDict TYPE_CHECKING abstractmethod _wall _WallAttr"
+).split()
+BARRED_NAMES = set(
+    "register mro elements open input law version_info with_traceback add_note attrgetter breakpoint builtins"
+    " compile copyright credits delattr dir eval exec exit gc getattr globals hasattr help id importlib license"
+    " locals methodcaller os quit setattr type vars sys __name__".split()
+)
+
+
+def tree_of(path):
+    return ast.parse(path.read_text("utf-8"))
+
+
+def docstrings(tree):
+    """The nodes of the docstrings of a file."""
+    with_docs = (ast.Module, ast.ClassDef, ast.FunctionDef)
+    bodies = [node.body for node in ast.walk(tree) if isinstance(node, with_docs)]
+    return [body[0].value for body in bodies if body and isinstance(body[0], ast.Expr)]
+
+
+def bound_names(tree):
+    """The names that a file binds anywhere."""
+    for node in ast.walk(tree):
+        if isinstance(node, ast.Name) and not isinstance(node.ctx, ast.Load):
+            yield node.id
+        elif isinstance(node, (ast.FunctionDef, ast.ClassDef)):
+            yield node.name
+        elif isinstance(node, ast.arg):
+            yield node.arg
+        elif isinstance(node, ast.alias):
+            yield node.asname or node.name
+
+
+def each_file(check):
+    """A test that makes the check of each file with its path, its text and its tree."""
+    def test(self):
+        for path in FILES:
+            with self.subTest(path.name):
+                check(self, path, path.read_text("utf-8"), tree_of(path))
+    return test
+
+
+class TestForm(unittest.TestCase):
+    def test_files(self):
+        self.assertIn(PACKAGE / "__init__.py", FILES)
+        for path in FILES:
+            self.assertRegex(path.name, r"\A([a-z][a-z0-9_]*|__init__|__main__)\.py\Z")
+
+    @each_file
+    def test_size_and_characters(self, path, text, tree):
+        lines = text.split("\n")
+        self.assertLessEqual(len(lines) - 1, 399)
+        self.assertLessEqual(max(map(len, lines)), 120)
+        self.assertRegex(text, r"\A[\n -~]*\Z")
+        for node in ast.walk(tree):
+            if isinstance(node, ast.FunctionDef):
+                self.assertLessEqual(node.end_lineno - node.lineno + 1, 40, node.name)
+
+    @each_file
+    def test_no_warnings(self, path, text, tree):
+        with warnings.catch_warnings():
+            warnings.simplefilter("error")
+            compile(text, str(path), "exec")
+
+    def test_imports(self):
+        imported = {}
+        for path in FILES:
+            imported[path.stem] = []
+            tree = tree_of(path)
+            for node in ast.walk(tree):
+                if isinstance(node, ast.ImportFrom):
+                    self.assertIn(node, tree.body)
+                    self.assertRegex(node.module, r"\Ahoursmeant\.[a-z_]+\Z")
+                    source = PACKAGE / (node.module.split(".")[1] + ".py")
+                    defined = [*bound_names(ast.Module(
+                        [one for one in tree_of(source).body if not isinstance(one, ast.ImportFrom)], [],
+                    ))]
+                    for alias in node.names:
+                        self.assertIn(alias.name, defined)
+                        self.assertIsNone(alias.asname)
+                    imported[path.stem].append(source.stem)
+        while imported:
+            free = [name for name, sources in imported.items() if not set(sources) & set(imported)]
+            self.assertTrue(free, "files import from each other")
+            imported = {name: sources for name, sources in imported.items() if name not in free}
+
+    @each_file
+    def test_module_level(self, path, text, tree):
+        allowed = (ast.ImportFrom, ast.FunctionDef, ast.ClassDef, ast.Assign)
+        docs = docstrings(tree)
+        names = [node.name for node in tree.body if isinstance(node, (ast.FunctionDef, ast.ClassDef))]
+        for node in tree.body:
+            self.assertTrue(isinstance(node, allowed) or node.value in docs)
+            if isinstance(node, ast.Assign):
+                self.assertEqual(len(node.targets), 1)
+                names.append(node.targets[0].id)
+                ast.literal_eval(node.value)
+            if isinstance(node, ast.ImportFrom):
+                names += [alias.name for alias in node.names]
+        self.assertEqual(len(names), len(set(names)))
+
+    @each_file
+    def test_syntax(self, path, text, tree):
+        for node in ast.walk(tree):
+            self.assertNotIsInstance(node, BARRED_NODES)
+            if isinstance(node, ast.Constant):
+                self.assertNotIsInstance(node.value, (float, complex, bytes))
+            if isinstance(node, ast.Compare) and isinstance(node.ops[0], (ast.Is, ast.IsNot)):
+                self.assertIn(getattr(node.comparators[0], "value", "no"), (None, True, False))
+            if isinstance(node, ast.FunctionDef):
+                for one in node.decorator_list:
+                    self.assertEqual(getattr(one, "id", None), "property")
+
+    @each_file
+    def test_names(self, path, text, tree):
+        defined = {name for path in FILES for name in bound_names(tree_of(path))}
+        for name in bound_names(tree):
+            self.assertNotIn(name, BARRED_NAMES)
+            self.assertTrue(name in DOUBLE or not name.startswith("__"), name)
+        local = {*bound_names(tree)} - DOUBLE
+        self.assertFalse(local & set(dir(builtins)))
+        for node in ast.walk(tree):
+            if isinstance(node, ast.Name) and isinstance(node.ctx, ast.Load):
+                self.assertTrue(node.id in local or node.id in BUILTINS, node.id)
+                self.assertNotEqual(node.id, "_")
+            if isinstance(node, ast.Call) and isinstance(node.func, ast.Attribute):
+                method = node.func.attr
+                self.assertTrue(method in METHODS or method in defined or method == "__init__", method)
+            if isinstance(node, ast.Attribute):
+                self.assertNotIn(node.attr, BARRED_NAMES)
+
+    @each_file
+    def test_words_and_strings(self, path, text, tree):
+        docs = docstrings(tree)
+        for node in ast.walk(tree):
+            if isinstance(node, ast.Constant) and isinstance(node.value, str):
+                self.assertNotIn("%", node.value)
+                if node not in docs:
+                    self.assertFalse(node.value.endswith(("._", ".__")))
+        doc_lines = {line for node in docs for line in range(node.lineno, node.end_lineno + 1)}
+        for token in tokenize.generate_tokens(io.StringIO(text).readline):
+            if token.type != tokenize.COMMENT and token.start[0] not in doc_lines:
+                words = re.findall(r"\w+", token.string)
+                self.assertFalse(set(words) & set(BARRED_WORDS), token.string)
+        self.assertNotIn("_wall", text)
+        for string in re.findall(r"\\.", text):
+            self.assertIn(string, ("\\n", "\\t", "\\\\", "\\\"", "\\'"))
+
+    @each_file
+    def test_generator_free_calls(self, path, text, tree):
+        # L7 and L5: beside classes with operators, sorted, any and the like take lists.
+        for node in ast.walk(tree):
+            self.assertNotIsInstance(node, ast.NamedExpr)
+            if isinstance(node, ast.Call) and isinstance(node.func, ast.Name) and node.func.id == "reversed":
+                inner = node.args[0]
+                self.assertIn(getattr(getattr(inner, "func", None), "id", None), ("list", "sorted", "range"))
