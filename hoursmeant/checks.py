@@ -13,6 +13,13 @@ def is_pair(value):
     return isinstance(value, tuple) and len(value) == 2
 
 
+def first_word(value):
+    """The string that the value begins with if it is a tuple that does, else None."""
+    if isinstance(value, tuple) and len(value) > 0 and isinstance(value[0], str):
+        return value[0]
+    return None
+
+
 def check_number(value):
     """Raise InvalidNumber unless the value is an integer."""
     if not is_number(value):

@@ -5,7 +5,7 @@ call them with what has been checked.
 """
 
 from hoursmeant.checks import check_number, is_number, is_pair
-from hoursmeant.errors import InvalidRule, InvalidTable, InvalidZone
+from hoursmeant.errors import InvalidPlace, InvalidRule, InvalidTable, InvalidZone, InvalidZones
 
 FARTHEST_OFFSET = 900
 MOST_OFFSETS = 3
@@ -78,6 +78,18 @@ def check_zone(value):
         raise InvalidZone("not a zone")
 
 
+def check_zones(value):
+    """Raise InvalidZones unless the value is a tuple of one or two zones."""
+    if not is_zones(value):
+        raise InvalidZones("not one or two zones")
+
+
+def check_place(zones, value):
+    """Raise InvalidPlace unless the value is a place of the zones."""
+    if not is_place(zones, value):
+        raise InvalidPlace("not a place of the zones")
+
+
 def check_table(zone, value):
     """Raise InvalidTable unless the value is a table of the zone."""
     if not fits_as_table(zone, value):
@@ -98,6 +110,11 @@ def fits_as_table(zone, value):
     if not is_offset(zone, offset) or not are_marks(zone, jumps):
         return False
     return _are_jumps(zone, offset, jumps)
+
+
+def is_place(zones, value):
+    """Whether the value is a place of what is known to be zones."""
+    return is_number(value) and 0 <= value < len(zones)
 
 
 def is_rule(value, rules):

@@ -1,20 +1,28 @@
-"""[2] for the modules that are there: names of arguments, errors and their order, new lists."""
+"""[2] for the functions that are there: names of arguments, errors and their order, new lists."""
 
 import copy
 import unittest
 
+from hoursmeant.cases import cases, looks_of, worlds
 from hoursmeant.errors import (
-    InvalidLooks, InvalidNumber, InvalidRule, InvalidTable, InvalidZone, InvalidZones, Refused,
+    InvalidLooks, InvalidNumber, InvalidPlace, InvalidProgram, InvalidRule, InvalidTable, InvalidValue,
+    InvalidWish, InvalidWorld, InvalidZone, InvalidZones, Refused, Unsuited,
 )
+from hoursmeant.programs import is_program, is_world, kinds, run
+from hoursmeant.questions import breaking, differences, is_wish, keeps, refusals, witness
 from hoursmeant.spacing import can_hold, crowded, early_table, is_looks, offsets_left
 from hoursmeant.zones import (
     find_moment, is_table, is_zone, is_zones, moments_of, offset_at, reading_at,
 )
-from tests.helpers import ODD_VALUES, nested, odd_at_each_depth, parameters
+from tests.helpers import ODD_VALUES, is_odd_copy, nested, odd_at_each_depth, parameters
 
 ZONE = ((0, 60), 100)
 TABLE = (60, ((600, 0),))
 LOOKS = ((0, 0), (50, 60), (101, 0))
+ZONES = (ZONE, ((-30, 30), 200))
+PROGRAM = (("read", 0, 0), ("find", 1, 0, "early", "refuse"), ("offset", 2, 1), ("edition", 2, 1))
+WORLD = ((TABLE, (30, ())), (TABLE, (30, ((700, -30),))))
+WISH = ("near", 0, 2, 59)
 
 # Right arguments in the order of the signature, and the error for each parameter that has one.
 CALLS = (
@@ -28,11 +36,26 @@ CALLS = (
     (crowded, {"zone": ZONE, "looks": LOOKS}),
     (early_table, {"zone": ZONE, "looks": LOOKS}),
     (offsets_left, {"zone": ZONE, "looks": LOOKS, "moment": 201}),
+    (is_program, {"zones": ZONES, "value": PROGRAM}),
+    (is_world, {"zones": ZONES, "value": WORLD}),
+    (kinds, {"zones": ZONES, "program": PROGRAM}),
+    (run, {"zones": ZONES, "program": PROGRAM, "world": WORLD, "start": 630}),
+    (cases, {"zones": ZONES, "program": PROGRAM}),
+    (worlds, {"zones": ZONES, "program": PROGRAM}),
+    (looks_of, {"zones": ZONES, "program": PROGRAM, "place": 1}),
+    (is_wish, {"zones": ZONES, "program": PROGRAM, "value": WISH}),
+    (keeps, {"zones": ZONES, "program": PROGRAM, "wish": WISH}),
+    (breaking, {"zones": ZONES, "program": PROGRAM, "wish": WISH}),
+    (differences, {"zones": ZONES, "program": PROGRAM, "first": 0, "second": 2}),
+    (witness, {"zones": ZONES, "program": PROGRAM, "first": 0, "second": 2, "difference": -60}),
+    (refusals, {"zones": ZONES, "program": PROGRAM}),
 )
 BY_NAME_ONLY = ("fold", "gap")
 ERRORS = {
     "zone": InvalidZone, "table": InvalidTable, "moment": InvalidNumber, "reading": InvalidNumber,
-    "fold": InvalidRule, "gap": InvalidRule, "looks": InvalidLooks,
+    "fold": InvalidRule, "gap": InvalidRule, "looks": InvalidLooks, "zones": InvalidZones,
+    "place": InvalidPlace, "program": InvalidProgram, "world": InvalidWorld, "start": InvalidNumber,
+    "first": InvalidValue, "second": InvalidValue, "difference": InvalidNumber, "wish": InvalidWish,
 }
 WRONG = {
     "zone": [*ODD_VALUES, (), 0, ((0, 60), 60), ((60, 0), 100), [(0, 60), 100], ((0, 1, 2, 3), 9), (ZONE,)],
@@ -41,18 +64,34 @@ WRONG = {
     "moment": [*ODD_VALUES, (), "600", (600,), [600]],
     "fold": [*ODD_VALUES, (), 0, "ahead", "behind", "Early", "early ", "earlylate", ("early",), 10 ** 30],
     "gap": [*ODD_VALUES, (), 0, "early", "late", "Ahead", " behind", "refuse\n", ("refuse",), -10 ** 30],
+    "zones": [*ODD_VALUES, (), 0, ZONE, [ZONE], (ZONE, ZONE, ZONE), (ZONE, ((60, 0), 100)), (ZONE, None)],
+    "place": [*ODD_VALUES, (), 2, -1, 10 ** 30, (0,), ZONE],
+    "program": [*ODD_VALUES, 0, list(PROGRAM), PROGRAM[1:], PROGRAM[::-1], PROGRAM + PROGRAM[3:], PROGRAM * 2000],
+    "world": [*ODD_VALUES, (), 0, WORLD[:1], WORLD * 2, WORLD[0], (WORLD[0], (TABLE,)), (WORLD[0], (TABLE, TABLE))],
+    "first": [*ODD_VALUES, (), 3, 5, -1, 10 ** 30, (0,), PROGRAM],
+    "wish": [*ODD_VALUES, (), 0, "found", ("same", 0, 3), ("order", 5, 0), ("near", 0, 2, 1000001), WISH[:3]],
 }
-WRONG["reading"] = WRONG["moment"]
+WRONG["reading"] = WRONG["start"] = WRONG["difference"] = WRONG["moment"]
+WRONG["second"] = WRONG["first"]
 WRONG["table"] += odd_at_each_depth((60, ((600, 0),)))
 WRONG["looks"] += odd_at_each_depth(((0, 0), (50, 60)))
 WRONG["zone"] += odd_at_each_depth(ZONE)
+WRONG["zones"] += odd_at_each_depth(ZONES)
+WRONG["program"] += [odd for odd in odd_at_each_depth(PROGRAM) if is_odd_copy(odd, PROGRAM)]
+WRONG["world"] += odd_at_each_depth(WORLD)
+WRONG["wish"] += [odd for odd in odd_at_each_depth(WISH) if is_odd_copy(odd, WISH)]
 
 
 def call(function, arguments):
     """The function with these arguments, by position as far as that is possible."""
     plain = [item for name, item in arguments.items() if name not in BY_NAME_ONLY]
     named = {name: item for name, item in arguments.items() if name in BY_NAME_ONLY}
-    return function(*plain, **named)
+    return whole(function(*plain, **named))
+
+
+def whole(result):
+    """What a function returned; all of it as a list if it is iterated over."""
+    return list(result) if hasattr(result, "__next__") else result
 
 
 class TestArguments(unittest.TestCase):
@@ -64,12 +103,18 @@ class TestArguments(unittest.TestCase):
             self.assertEqual(plain + list(named), list(arguments))
             self.assertEqual(list(named), [name for name in arguments if name in BY_NAME_ONLY])
         self.assertEqual(parameters(find_moment)[1], {"fold": "early", "gap": "ahead"})
+        self.assertEqual(run.__defaults__, (0,))
+        for function, _ in CALLS:
+            if function is not run:
+                self.assertIsNone(function.__defaults__)
 
     def test_by_position_and_by_name(self):
         self.assertIs(is_zone(value=ZONE), True)
         self.assertIs(is_zones(value=(ZONE,)), True)
         for function, arguments in CALLS:
-            self.assertEqual(function(**arguments), call(function, arguments))
+            self.assertEqual(whole(function(**arguments)), call(function, arguments))
+            backwards = dict(reversed(arguments.items()))
+            self.assertEqual(whole(function(**backwards)), call(function, arguments))
 
     def test_rules_by_name_only(self):
         for rules in (("early",), ("early", "ahead")):
@@ -101,6 +146,8 @@ class TestErrors(unittest.TestCase):
     def test_what_is_right_for_another_zone(self):
         other = ((-60, 0), 100)
         for function, arguments in CALLS:
+            if "zone" not in arguments:
+                continue
             wrong = {**arguments, "zone": other}
             with self.subTest(function=function.__name__):
                 if "value" in arguments:
@@ -114,11 +161,43 @@ class TestErrors(unittest.TestCase):
             self.assertIs(is_zones(value), False)
             self.assertIs(is_table(ZONE, value), False)
             self.assertIs(is_looks(ZONE, value), False)
+            self.assertIs(is_program(ZONES, value), False)
+            self.assertIs(is_world(ZONES, value), False)
+            self.assertIs(is_wish(ZONES, PROGRAM, value), False)
 
     def test_wrong_zone_with_any_value(self):
         for function in (is_table, is_looks):
             for value in ODD_VALUES:
                 self.assertRaises(InvalidZone, function, None, value)
+        for function in (is_program, is_world):
+            for value in ODD_VALUES:
+                self.assertRaises(InvalidZones, function, None, value)
+
+    def test_what_is_right_for_other_zones(self):
+        one_place = (ZONE,)
+        self.assertIs(is_program(one_place, PROGRAM), False)
+        self.assertIs(is_world(one_place, WORLD), False)
+        for function, arguments in CALLS:
+            if "program" in arguments:
+                self.assertRaises(InvalidProgram, call, function, {**arguments, "zones": one_place})
+        self.assertRaises(InvalidWorld, run, one_place, (), WORLD)
+        self.assertRaises(InvalidWorld, run, ZONES[::-1], (), WORLD)
+        self.assertRaises(InvalidPlace, looks_of, one_place, (), 1)
+
+    def test_what_is_right_for_another_program(self):
+        self.assertIs(is_wish(ZONES, PROGRAM[:1], WISH), False)
+        for function in (keeps, breaking):
+            self.assertRaises(InvalidWish, function, ZONES, PROGRAM[:1], WISH)
+        self.assertRaises(InvalidValue, differences, ZONES, PROGRAM[:1], 0, 2)
+        self.assertRaises(InvalidValue, witness, ZONES, PROGRAM[:1], 2, 0, None)
+
+    def test_parameters_ahead_of_what_the_run_comes_to(self):
+        refused = (("read", 0, 0), ("find", 1, 0, "refuse", "ahead"))
+        unsuited = (WORLD[0], (TABLE, (-30, ())))
+        self.assertRaises(Refused, run, ZONES, refused, WORLD, 630)
+        self.assertRaises(Unsuited, run, ZONES, PROGRAM, unsuited, 630)
+        for program, world in ((refused, WORLD), (PROGRAM, unsuited)):
+            self.assertRaises(InvalidNumber, run, ZONES, program, world, "630")
 
     def test_unlike_errors(self):
         self.assertFalse(issubclass(InvalidZones, InvalidZone))
@@ -129,6 +208,11 @@ class TestReturned(unittest.TestCase):
         for function, arguments in (
             (moments_of, (ZONE, TABLE, 630)), (moments_of, (ZONE, (0, ((600, 60),)), 630)),
             (offsets_left, (ZONE, (), 5)), (offsets_left, (ZONE, ((0, 0), (1, 60), (2, 0)), 5)),
+            (kinds, (ZONES, PROGRAM)), (kinds, (ZONES, ())), (run, (ZONES, PROGRAM, WORLD, 630)),
+            (run, (ZONES, (), WORLD)), (cases, (ZONES, PROGRAM)), (cases, (ZONES, ())),
+            (looks_of, (ZONES, PROGRAM, 1)), (looks_of, (ZONES, (), 1)),
+            (differences, (ZONES, PROGRAM, 0, 2)), (refusals, (ZONES, PROGRAM)),
+            (refusals, (ZONES, (("read", 0, 0), ("find", 1, 0, "refuse", "ahead")))),
         ):
             first = function(*arguments)
             kept = list(first)
@@ -137,17 +221,18 @@ class TestReturned(unittest.TestCase):
             second = function(*arguments)
             self.assertEqual(second, kept)
             self.assertIsNot(second, first)
+            self.assertEqual(first, [*kept, "more"])
 
     def test_equal_calls_have_equal_results(self):
         for function, arguments in CALLS:
             again = copy.deepcopy(arguments)
-            self.assertEqual(function(**arguments), function(**again))
-            self.assertEqual(function(**arguments), function(**again))
+            self.assertEqual(whole(function(**arguments)), whole(function(**again)))
+            self.assertEqual(whole(function(**arguments)), whole(function(**again)))
 
     def test_arguments_stay(self):
         for function, arguments in CALLS:
             kept = copy.deepcopy(arguments)
-            function(**arguments)
+            call(function, arguments)
             self.assertEqual(arguments, kept)
         for make in (lambda: [(0, 60), [100]], lambda: ([[0], 60], 100), lambda: [Refused]):
             value = make()
@@ -155,18 +240,41 @@ class TestReturned(unittest.TestCase):
                 self.assertIs(function(value), False)
             for name, function in (("table", offset_at), ("looks", offsets_left)):
                 self.assertRaises(ERRORS[name], function, ZONE, value, 0)
+            self.assertIs(is_program(ZONES, value), False)
+            self.assertIs(is_world(ZONES, value), False)
+            self.assertIs(is_wish(ZONES, PROGRAM, value), False)
+            self.assertRaises(InvalidWish, keeps, ZONES, PROGRAM, value)
             self.assertEqual(value, make())
 
     def test_kinds(self):
         for function, arguments in CALLS:
-            result = function(**arguments)
+            result = call(function, arguments)
             kind = {
                 is_table: bool, offset_at: int, reading_at: int, moments_of: list, find_moment: int,
                 is_looks: bool, can_hold: bool, early_table: tuple, offsets_left: list,
-                crowded: type(None),
+                crowded: type(None), is_program: bool, is_world: bool, kinds: list, run: list, cases: list,
+                worlds: list, looks_of: list, is_wish: bool, keeps: bool, breaking: tuple, differences: list,
+                witness: tuple, refusals: list,
             }[function]
             self.assertIs(type(result), kind)
         self.assertEqual(crowded(ZONE, ((0, 0), (1, 60), (2, 0))), (0, 2))
         self.assertIs(type(crowded(ZONE, ((0, 0), (1, 60), (2, 0)))), tuple)
         offset, jumps = early_table(ZONE, LOOKS)
         self.assertEqual([type(item) for item in (offset, jumps, *jumps)], [int, tuple, tuple, tuple])
+
+    def test_kinds_within_cases_and_worlds(self):
+        def plain(value):
+            """Whether the value is a tuple of tuples, integers and None, as deep as it goes."""
+            if type(value) is tuple:
+                return all(plain(item) for item in value)
+            return value is None or type(value) is int
+
+        for program in (PROGRAM, (), (("read", 0, 0), ("find", 1, 0, "refuse", "ahead"))):
+            for case, world in zip(cases(ZONES, program), worlds(ZONES, program)):
+                self.assertTrue(plain(case))
+                self.assertEqual(len(case), 3)
+                self.assertTrue(plain(world))
+                self.assertIs(is_world(ZONES, world), True)
+        self.assertTrue(plain(breaking(ZONES, PROGRAM, WISH)))
+        self.assertTrue(plain(witness(ZONES, PROGRAM, 0, 2, -60)))
+        self.assertTrue(plain(tuple(run(ZONES, PROGRAM, WORLD, 630))))

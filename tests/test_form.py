@@ -37,6 +37,18 @@ BARRED_NAMES = set(
 )
 
 
+# What the interface of DOC.md lists, as far as the modules are there.
+INTERFACE = {
+    "zones": "is_zone is_zones is_table offset_at reading_at moments_of find_moment",
+    "spacing": "is_looks can_hold crowded early_table offsets_left",
+    "programs": "is_program is_world kinds run",
+    "cases": "cases worlds looks_of",
+    "questions": "is_wish keeps breaking differences witness refusals",
+}
+# L23: what may stand around the call of a generator, beside a loop, a comprehension and yield from.
+ITERATING = set("list tuple dict sorted sum min max any all enumerate zip".split())
+
+
 def tree_of(path):
     return ast.parse(path.read_text("utf-8"))
 
@@ -59,6 +71,26 @@ def bound_names(tree):
             yield node.arg
         elif isinstance(node, ast.alias):
             yield node.asname or node.name
+
+
+def generators():
+    """The names of the functions of the package that yield."""
+    for path in FILES:
+        for node in ast.walk(tree_of(path)):
+            inner = ast.walk(node) if isinstance(node, ast.FunctionDef) else ()
+            if any(isinstance(one, (ast.Yield, ast.YieldFrom)) for one in inner):
+                yield node.name
+
+
+def iterated_at_once(tree):
+    """The nodes that stand where a file iterates on the spot."""
+    for node in ast.walk(tree):
+        if isinstance(node, (ast.For, ast.comprehension)):
+            yield node.iter
+        elif isinstance(node, ast.YieldFrom):
+            yield node.value
+        elif isinstance(node, ast.Call) and isinstance(node.func, ast.Name) and node.func.id in ITERATING:
+            yield from node.args
 
 
 def each_file(check):
@@ -113,6 +145,12 @@ class TestForm(unittest.TestCase):
             free = [name for name, sources in imported.items() if not set(sources) & set(imported)]
             self.assertTrue(free, "files import from each other")
             imported = {name: sources for name, sources in imported.items() if name not in free}
+
+    def test_interface_stands_in_its_files(self):
+        for stem, names in INTERFACE.items():
+            body = tree_of(PACKAGE / (stem + ".py")).body
+            defined = [node.name for node in body if isinstance(node, ast.FunctionDef)]
+            self.assertLessEqual({*names.split()}, {*defined})
 
     @each_file
     def test_module_level(self, path, text, tree):
@@ -175,6 +213,39 @@ class TestForm(unittest.TestCase):
         self.assertNotIn("_wall", text)
         for string in re.findall(r"\\.", text):
             self.assertIn(string, ("\\n", "\\t", "\\\\", "\\\"", "\\'"))
+
+    @each_file
+    def test_generators_are_iterated_at_once(self, path, text, tree):
+        names = [*generators()]
+        self.assertEqual(len(names), len(set(names)))
+        self.assertFalse(set(names) & METHODS)
+        called = [node.func for node in iterated_at_once(tree) if isinstance(node, ast.Call)]
+        for node in ast.walk(tree):
+            if isinstance(node, ast.Name) and node.id in names:
+                self.assertIn(node, called, node.id)
+            if isinstance(node, (ast.Yield, ast.YieldFrom)):
+                lines = [one.value for one in ast.walk(tree) if isinstance(one, ast.Expr)]
+                self.assertIn(node, lines)
+            if isinstance(node, (ast.Try, ast.With)):
+                self.assertFalse(any(isinstance(one, (ast.Yield, ast.YieldFrom)) for one in ast.walk(node)))
+
+    @each_file
+    def test_lists_and_dicts_at_module_level_are_not_passed_on(self, path, text, tree):
+        kept = {
+            node.targets[0].id for one in FILES for node in tree_of(one).body
+            if isinstance(node, ast.Assign) and isinstance(node.value, (ast.List, ast.Dict))
+        }
+        allowed = []
+        for node in ast.walk(tree):
+            if isinstance(node, (ast.Subscript, ast.Attribute)):
+                allowed.append(node.value)
+            elif isinstance(node, ast.Compare):
+                allowed += node.comparators
+            elif isinstance(node, (ast.For, ast.comprehension)):
+                allowed.append(node.iter)
+        for node in ast.walk(tree):
+            if isinstance(node, ast.Name) and node.id in kept and isinstance(node.ctx, ast.Load):
+                self.assertIn(node, allowed, node.id)
 
     @each_file
     def test_generator_free_calls(self, path, text, tree):
