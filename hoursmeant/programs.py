@@ -24,6 +24,7 @@ STEP_ROLES = {
     "less": ("reading", "span"),
     "add": ("time", "minutes"),
 }
+KINDS = ("moment", "reading", "span")
 # The kinds of what the steps make, but for "add", which keeps the kind of its value.
 MADE_KINDS = {
     "read": "reading", "find": "moment", "offset": "span", "edition": "moment", "plus": "reading",
@@ -104,6 +105,21 @@ def kinds_of_values(program):
     return known
 
 
+def fits_step_role(zones, known, role, value):
+    """Whether the value can stand for the role in a step behind values of these kinds."""
+    if role == "place":
+        return is_place(zones, value)
+    if role == "fold":
+        return is_rule(value, FOLD_RULES)
+    if role == "gap":
+        return is_rule(value, GAP_RULES)
+    if role == "minutes":
+        return is_number(value) and -FARTHEST_MINUTES <= value <= FARTHEST_MINUTES
+    if role == "time":
+        return is_time(known, value)
+    return _is_index(known, value) and known[value] == role
+
+
 def is_time(known, value):
     """Whether the value is an index into the kinds, and that of a moment or a reading."""
     return _is_index(known, value) and known[value] != "span"
@@ -154,21 +170,7 @@ def _is_step(zones, known, value):
     roles = STEP_ROLES.get(first_word(value))
     if roles is None or len(value) != 1 + len(roles):
         return False
-    return all([_fits_role(zones, known, role, item) for role, item in zip(roles, value[1:])])
-
-
-def _fits_role(zones, known, role, value):
-    if role == "place":
-        return is_place(zones, value)
-    if role == "fold":
-        return is_rule(value, FOLD_RULES)
-    if role == "gap":
-        return is_rule(value, GAP_RULES)
-    if role == "minutes":
-        return is_number(value) and -FARTHEST_MINUTES <= value <= FARTHEST_MINUTES
-    if role == "time":
-        return is_time(known, value)
-    return _is_index(known, value) and known[value] == role
+    return all([fits_step_role(zones, known, role, item) for role, item in zip(roles, value[1:])])
 
 
 def _is_index(known, value):

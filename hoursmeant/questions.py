@@ -34,10 +34,10 @@ def breaking(zones, program, wish):
     check_zones(zones)
     check_program(zones, program)
     check_wish(program, wish)
-    for case in each_case(zones, program):
-        if breaks(case, wish):
-            return early_world(zones, program, case)
-    return None
+    case = first_breaking(zones, program, wish)
+    if case is None:
+        return None
+    return early_world(zones, program, case)
 
 
 def differences(zones, program, first, second):
@@ -97,7 +97,22 @@ def fits_as_wish(program, value):
     if roles is None or len(value) != 1 + len(roles):
         return False
     known = kinds_of_values(program)
-    return all([_fits_role(known, role, item) for role, item in zip(roles, value[1:])])
+    return all([fits_wish_role(known, role, item) for role, item in zip(roles, value[1:])])
+
+
+def fits_wish_role(known, role, value):
+    """Whether the value can stand for the role in a wish about values of these kinds."""
+    if role == "most":
+        return is_number(value) and 0 <= value <= FARTHEST_NEAR
+    return is_time(known, value)
+
+
+def first_breaking(zones, program, wish):
+    """The first case that breaks the wish, None if none does."""
+    for case in each_case(zones, program):
+        if breaks(case, wish):
+            return case
+    return None
 
 
 def breaks(case, wish):
@@ -108,12 +123,6 @@ def breaks(case, wish):
     if refused is not None:
         return False
     return not _is_kept(wish, values[wish[1]], values[wish[2]])
-
-
-def _fits_role(known, role, value):
-    if role == "most":
-        return is_number(value) and 0 <= value <= FARTHEST_NEAR
-    return is_time(known, value)
 
 
 def _is_kept(wish, one, other):

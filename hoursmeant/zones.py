@@ -5,7 +5,9 @@ call them with what has been checked.
 """
 
 from hoursmeant.checks import check_number, is_number, is_pair
-from hoursmeant.errors import InvalidPlace, InvalidRule, InvalidTable, InvalidZone, InvalidZones
+from hoursmeant.errors import (
+    InvalidOffset, InvalidPlace, InvalidRule, InvalidTable, InvalidZone, InvalidZones,
+)
 
 FARTHEST_OFFSET = 900
 MOST_OFFSETS = 3
@@ -88,6 +90,12 @@ def check_place(zones, value):
     """Raise InvalidPlace unless the value is a place of the zones."""
     if not is_place(zones, value):
         raise InvalidPlace("not a place of the zones")
+
+
+def check_offset(zone, value):
+    """Raise InvalidOffset unless the value is one of the offsets of the zone."""
+    if not is_offset(zone, value):
+        raise InvalidOffset("not an offset of the zone")
 
 
 def check_table(zone, value):

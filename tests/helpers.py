@@ -248,6 +248,50 @@ def slow_early_world(zones, program, case):
     return tuple(tables), tuple(later)
 
 
+def slow_breaks(case, wish):
+    """Whether the case breaks the wish, as [9] says."""
+    word, *rest = wish
+    if case[2] is not None or word == "found":
+        return word == "found" and case[2] is not None
+    one, other = (case[1][k] for k in rest[:2])
+    return {"same": one != other, "order": one > other, "near": abs(one - other) > (rest + [0, 0])[2]}[word]
+
+
+def times_of(program):
+    """The indexes of the values that are no spans."""
+    return [k for k, kind in enumerate(slow_kinds(program)) if kind != "span"]
+
+
+def spread_tables(zones, bounds):
+    """All worlds without editions whose tables jump between the bounds of their place."""
+    choices = [tables_within(zone, first + 1, last) for zone, (first, last) in zip(zones, bounds)]
+    return [(tables, tables) for tables in product(*choices)]
+
+
+def slow_pairs(zones, one, other):
+    """What runs of both programs from 0 in the same world come to, in the sequence of [15].
+
+    For each it tells what both look at, one behind the other, and how each one ends: with the
+    last value less the start, or None if it is refused.
+    """
+    bounds = [
+        (min(ends[0] for ends in pair), max(ends[1] for ends in pair))
+        for pair in zip(slow_bounds(zones, one), slow_bounds(zones, other))
+    ]
+    found = set()
+    for world in spread_tables(zones, bounds):
+        looks, values, refused = slow_run(zones, one, world, 0)
+        other_looks, other_values, other_refused = slow_run(zones, other, world, 0)
+        looked = looks + tuple(look for look in other_looks if look not in looks)
+        ends = tuple(
+            values[-1] if refused is None else None
+            for values, refused in ((values, refused), (other_values, other_refused))
+        )
+        found.add((looked, *ends))
+    # What both look at decides how they end, so no two have the same looks.
+    return sorted(found, key=lambda pair: pair[0])
+
+
 def moved(world, by):
     """The world with each jump later by so many minutes."""
     return tuple(

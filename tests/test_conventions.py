@@ -1,16 +1,23 @@
-"""[2] for the functions that are there: names of arguments, errors and their order, new lists."""
+"""[2] for all functions: names of arguments, errors and their order, new lists.
+
+What it asks of the methods of Sightings and Console is in their own tests.
+"""
 
 import copy
 import unittest
 
 from hoursmeant.cases import cases, looks_of, worlds
+from hoursmeant.console import Console
 from hoursmeant.errors import (
     InvalidLooks, InvalidNumber, InvalidPlace, InvalidProgram, InvalidRule, InvalidTable, InvalidValue,
-    InvalidWish, InvalidWorld, InvalidZone, InvalidZones, Refused, Unsuited,
+    InvalidWish, InvalidWords, InvalidWorld, InvalidZone, InvalidZones, Refused, Unsuited,
 )
+from hoursmeant.mending import alike, least_spacing, parting, rules_that_keep
 from hoursmeant.programs import is_program, is_world, kinds, run
 from hoursmeant.questions import breaking, differences, is_wish, keeps, refusals, witness
+from hoursmeant.sightings import Sightings, SureSightings
 from hoursmeant.spacing import can_hold, crowded, early_table, is_looks, offsets_left
+from hoursmeant.words import read_program, read_wish, write_program, write_wish
 from hoursmeant.zones import (
     find_moment, is_table, is_zone, is_zones, moments_of, offset_at, reading_at,
 )
@@ -23,6 +30,9 @@ ZONES = (ZONE, ((-30, 30), 200))
 PROGRAM = (("read", 0, 0), ("find", 1, 0, "early", "refuse"), ("offset", 2, 1), ("edition", 2, 1))
 WORLD = ((TABLE, (30, ())), (TABLE, (30, ((700, -30),))))
 WISH = ("near", 0, 2, 59)
+# Two programs without editions whose last values are moments.
+ENDED = (("read", 0, 0), ("find", 1, 1, "late", "behind"))
+OTHER = (("offset", 0, 1), ("plus", 0, 1), ("add", 0, 30))
 
 # Right arguments in the order of the signature, and the error for each parameter that has one.
 CALLS = (
@@ -49,6 +59,14 @@ CALLS = (
     (differences, {"zones": ZONES, "program": PROGRAM, "first": 0, "second": 2}),
     (witness, {"zones": ZONES, "program": PROGRAM, "first": 0, "second": 2, "difference": -60}),
     (refusals, {"zones": ZONES, "program": PROGRAM}),
+    (rules_that_keep, {"zones": ZONES, "program": PROGRAM, "wish": WISH}),
+    (least_spacing, {"zones": ZONES, "program": PROGRAM, "wish": WISH, "place": 1}),
+    (alike, {"zones": ZONES, "one": ENDED, "other": OTHER}),
+    (parting, {"zones": ZONES, "one": ENDED, "other": OTHER}),
+    (write_program, {"zones": ZONES, "program": PROGRAM}),
+    (read_program, {"zones": ZONES, "words": "read 0 0 then edition 0 1"}),
+    (write_wish, {"zones": ZONES, "program": PROGRAM, "wish": WISH}),
+    (read_wish, {"zones": ZONES, "program": PROGRAM, "words": "near 0 2 59"}),
 )
 BY_NAME_ONLY = ("fold", "gap")
 ERRORS = {
@@ -56,6 +74,7 @@ ERRORS = {
     "fold": InvalidRule, "gap": InvalidRule, "looks": InvalidLooks, "zones": InvalidZones,
     "place": InvalidPlace, "program": InvalidProgram, "world": InvalidWorld, "start": InvalidNumber,
     "first": InvalidValue, "second": InvalidValue, "difference": InvalidNumber, "wish": InvalidWish,
+    "one": InvalidProgram, "other": InvalidProgram, "words": InvalidWords,
 }
 WRONG = {
     "zone": [*ODD_VALUES, (), 0, ((0, 60), 60), ((60, 0), 100), [(0, 60), 100], ((0, 1, 2, 3), 9), (ZONE,)],
@@ -69,10 +88,14 @@ WRONG = {
     "program": [*ODD_VALUES, 0, list(PROGRAM), PROGRAM[1:], PROGRAM[::-1], PROGRAM + PROGRAM[3:], PROGRAM * 2000],
     "world": [*ODD_VALUES, (), 0, WORLD[:1], WORLD * 2, WORLD[0], (WORLD[0], (TABLE,)), (WORLD[0], (TABLE, TABLE))],
     "first": [*ODD_VALUES, (), 3, 5, -1, 10 ** 30, (0,), PROGRAM],
+    # Other values than strings are not asked for here.
+    "words": ["", " ", "-0", "then", "read", "same", "near 0 2", "read 0 0 ", "x" * 4000, "find 0 0 early ahead"],
     "wish": [*ODD_VALUES, (), 0, "found", ("same", 0, 3), ("order", 5, 0), ("near", 0, 2, 1000001), WISH[:3]],
 }
 WRONG["reading"] = WRONG["start"] = WRONG["difference"] = WRONG["moment"]
 WRONG["second"] = WRONG["first"]
+WRONG["one"] = list(WRONG["program"])
+WRONG["other"] = [*WRONG["program"], ENDED[:1], OTHER[:1]]
 WRONG["table"] += odd_at_each_depth((60, ((600, 0),)))
 WRONG["looks"] += odd_at_each_depth(((0, 0), (50, 60)))
 WRONG["zone"] += odd_at_each_depth(ZONE)
@@ -165,6 +188,16 @@ class TestErrors(unittest.TestCase):
             self.assertIs(is_world(ZONES, value), False)
             self.assertIs(is_wish(ZONES, PROGRAM, value), False)
 
+    def test_objects_of_this_package_as_any_value(self):
+        objects = [Sightings(ZONE), SureSightings(ZONE), Console(ZONES), Sightings, Refused(1)]
+        for one in [*objects, *[(one,) for one in objects], *[(one, one) for one in objects], *[[one] for one in objects]]:
+            for function, arguments in CALLS:
+                for name in arguments:
+                    if name == "value":
+                        self.assertIs(function(**{**arguments, name: one}), False)
+                    elif name != "words":
+                        self.assertRaises(ERRORS[name], call, function, {**arguments, name: one})
+
     def test_wrong_zone_with_any_value(self):
         for function in (is_table, is_looks):
             for value in ODD_VALUES:
@@ -178,16 +211,22 @@ class TestErrors(unittest.TestCase):
         self.assertIs(is_program(one_place, PROGRAM), False)
         self.assertIs(is_world(one_place, WORLD), False)
         for function, arguments in CALLS:
-            if "program" in arguments:
+            if "program" in arguments or "one" in arguments:
                 self.assertRaises(InvalidProgram, call, function, {**arguments, "zones": one_place})
         self.assertRaises(InvalidWorld, run, one_place, (), WORLD)
         self.assertRaises(InvalidWorld, run, ZONES[::-1], (), WORLD)
         self.assertRaises(InvalidPlace, looks_of, one_place, (), 1)
+        self.assertRaises(InvalidPlace, least_spacing, one_place, (), ("found",), 1)
+        self.assertRaises(InvalidWords, read_program, one_place, "edition 0 1")
 
     def test_what_is_right_for_another_program(self):
         self.assertIs(is_wish(ZONES, PROGRAM[:1], WISH), False)
-        for function in (keeps, breaking):
+        for function in (keeps, breaking, rules_that_keep, write_wish):
             self.assertRaises(InvalidWish, function, ZONES, PROGRAM[:1], WISH)
+        self.assertRaises(InvalidWish, least_spacing, ZONES, PROGRAM[:1], WISH, 5)
+        self.assertRaises(InvalidWords, read_wish, ZONES, PROGRAM[:1], "near 0 2 59")
+        self.assertRaises(InvalidProgram, alike, ZONES, ENDED, ENDED[:1])
+        self.assertRaises(InvalidProgram, parting, ZONES, ENDED[:1], ENDED)
         self.assertRaises(InvalidValue, differences, ZONES, PROGRAM[:1], 0, 2)
         self.assertRaises(InvalidValue, witness, ZONES, PROGRAM[:1], 2, 0, None)
 
@@ -213,6 +252,8 @@ class TestReturned(unittest.TestCase):
             (looks_of, (ZONES, PROGRAM, 1)), (looks_of, (ZONES, (), 1)),
             (differences, (ZONES, PROGRAM, 0, 2)), (refusals, (ZONES, PROGRAM)),
             (refusals, (ZONES, (("read", 0, 0), ("find", 1, 0, "refuse", "ahead")))),
+            (rules_that_keep, (ZONES, PROGRAM, WISH)), (rules_that_keep, (ZONES, (), ("found",))),
+            (rules_that_keep, (ZONES, ENDED, ("same", 0, 2))),
         ):
             first = function(*arguments)
             kept = list(first)
@@ -254,7 +295,8 @@ class TestReturned(unittest.TestCase):
                 is_looks: bool, can_hold: bool, early_table: tuple, offsets_left: list,
                 crowded: type(None), is_program: bool, is_world: bool, kinds: list, run: list, cases: list,
                 worlds: list, looks_of: list, is_wish: bool, keeps: bool, breaking: tuple, differences: list,
-                witness: tuple, refusals: list,
+                witness: tuple, refusals: list, rules_that_keep: list, least_spacing: type(None), alike: bool,
+                parting: tuple, write_program: str, read_program: tuple, write_wish: str, read_wish: tuple,
             }[function]
             self.assertIs(type(result), kind)
         self.assertEqual(crowded(ZONE, ((0, 0), (1, 60), (2, 0))), (0, 2))

@@ -14,7 +14,7 @@ FILES = sorted(path for path in PACKAGE.rglob("*") if path.is_file() and path.su
 
 BUILTINS = set(
     "len range enumerate zip min max sum abs sorted reversed int str bool list tuple dict set isinstance"
-    " ord repr any all divmod super property Exception ValueError TypeError KeyError NotImplemented".split()
+    " ord repr any all divmod super property classmethod Exception ValueError TypeError KeyError NotImplemented".split()
 )
 METHODS = set(
     "append clear copy count endswith extend find get index insert isalnum isalpha isdigit islower isspace"
@@ -37,14 +37,24 @@ BARRED_NAMES = set(
 )
 
 
-# What the interface of DOC.md lists, as far as the modules are there.
+# The functions that the interface of DOC.md lists, and the methods of its classes.
 INTERFACE = {
     "zones": "is_zone is_zones is_table offset_at reading_at moments_of find_moment",
     "spacing": "is_looks can_hold crowded early_table offsets_left",
     "programs": "is_program is_world kinds run",
     "cases": "cases worlds looks_of",
     "questions": "is_wish keeps breaking differences witness refusals",
+    "mending": "rules_that_keep least_spacing alike parting",
+    "words": "write_program read_program write_wish read_wish",
 }
+CLASSES = {
+    ("sightings", "Sightings"):
+        "__init__ zone looks see drop undo options table begin finish twin __len__ __getitem__ __contains__ __or__ __eq__"
+        " __iter__",
+    ("sightings", "SureSightings"): "see",
+    ("console", "Console"): "__init__ execute",
+}
+DECORATORS = {"zone": "property", "looks": "property", "_made": "classmethod"}
 # L23: what may stand around the call of a generator, beside a loop, a comprehension and yield from.
 ITERATING = set("list tuple dict sorted sum min max any all enumerate zip".split())
 
@@ -69,6 +79,8 @@ def bound_names(tree):
             yield node.name
         elif isinstance(node, ast.arg):
             yield node.arg
+        elif isinstance(node, ast.ExceptHandler) and node.name:
+            yield node.name
         elif isinstance(node, ast.alias):
             yield node.asname or node.name
 
@@ -151,6 +163,34 @@ class TestForm(unittest.TestCase):
             body = tree_of(PACKAGE / (stem + ".py")).body
             defined = [node.name for node in body if isinstance(node, ast.FunctionDef)]
             self.assertLessEqual({*names.split()}, {*defined})
+        for (stem, name), methods in CLASSES.items():
+            body = tree_of(PACKAGE / (stem + ".py")).body
+            (found,) = [node for node in body if isinstance(node, ast.ClassDef) and node.name == name]
+            defined = [node.name for node in found.body if isinstance(node, ast.FunctionDef)]
+            self.assertEqual(len(defined), len(set(defined)))
+            self.assertLessEqual({*methods.split()}, {*defined})
+
+    @each_file
+    def test_double_underscore_methods(self, path, text, tree):
+        for node in ast.walk(tree):
+            if not isinstance(node, ast.ClassDef):
+                continue
+            for method in node.body:
+                if not isinstance(method, ast.FunctionDef) or not method.name.startswith("__"):
+                    continue
+                self.assertIn(method.name, DOUBLE)
+                if method.name == "__init__":
+                    continue
+                # L5 and L28: nothing of an object is assigned, but of those that the method creates.
+                created = [
+                    one.targets[0].id for one in method.body if isinstance(one, ast.Assign)
+                    and isinstance(one.targets[0], ast.Name) and isinstance(one.value, ast.Call)
+                    and one.value.func.id in ("Sightings",)
+                ]
+                for one in ast.walk(method):
+                    self.assertNotIsInstance(one, (ast.AugAssign, ast.Delete))
+                    if isinstance(one, (ast.Attribute, ast.Subscript)) and isinstance(one.ctx, ast.Store):
+                        self.assertIn(one.value.id, created)
 
     @each_file
     def test_module_level(self, path, text, tree):
@@ -169,6 +209,7 @@ class TestForm(unittest.TestCase):
 
     @each_file
     def test_syntax(self, path, text, tree):
+        methods = [method for one in tree.body if isinstance(one, ast.ClassDef) for method in one.body]
         for node in ast.walk(tree):
             self.assertNotIsInstance(node, BARRED_NODES)
             if isinstance(node, ast.Constant):
@@ -176,8 +217,8 @@ class TestForm(unittest.TestCase):
             if isinstance(node, ast.Compare) and isinstance(node.ops[0], (ast.Is, ast.IsNot)):
                 self.assertIn(getattr(node.comparators[0], "value", "no"), (None, True, False))
             if isinstance(node, ast.FunctionDef):
-                for one in node.decorator_list:
-                    self.assertEqual(getattr(one, "id", None), "property")
+                decorators = [one.id for one in node.decorator_list]
+                self.assertEqual(decorators, [DECORATORS[node.name]] if node.name in DECORATORS and node in methods else [])
 
     @each_file
     def test_names(self, path, text, tree):

@@ -11,7 +11,9 @@ from hoursmeant.cases import cases, looks_of, worlds
 from hoursmeant.errors import Refused, Unsuited
 from hoursmeant.programs import is_program, is_world, kinds, run
 from hoursmeant.questions import breaking, differences, keeps, refusals, witness
-from tests.helpers import moved, programs_of, slow_cases, slow_early_world, slow_kinds, slow_run, slow_worlds
+from tests.helpers import (
+    moved, programs_of, slow_breaks, slow_cases, slow_early_world, slow_kinds, slow_run, slow_worlds, times_of,
+)
 
 ALL_RULES = [(fold, gap) for fold in ("early", "late", "refuse") for gap in ("ahead", "behind", "refuse")]
 FEW_RULES = [("early", "behind"), ("late", "ahead"), ("refuse", "refuse")]
@@ -51,20 +53,6 @@ def sampled():
 
 # The slow cases are needed by each test, and take most of the time.
 ALL = [(zones, program, slow_cases(zones, program)) for zones, program in sampled()]
-
-
-def slow_breaks(case, wish):
-    """Whether the case breaks the wish, as [9] says."""
-    word, *rest = wish
-    if case[2] is not None or word == "found":
-        return word == "found" and case[2] is not None
-    one, other = (case[1][k] for k in rest[:2])
-    return {"same": one != other, "order": one > other, "near": abs(one - other) > (rest + [0, 0])[2]}[word]
-
-
-def times_of(program):
-    """The indexes of the values that are no spans."""
-    return [k for k, kind in enumerate(slow_kinds(program)) if kind != "span"]
 
 
 class TestSmallZones(unittest.TestCase):
