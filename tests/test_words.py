@@ -129,9 +129,7 @@ class TestWriteProgram(unittest.TestCase):
             (("add", 0, -7), "add 0 -7"), (("add", 0, 0), "add 0 0"), (("add", 0, 100000), "add 0 100000"),
         ):
             self.assertEqual(write_program(TWO, (step,)), text)
-            self.assertEqual(write_program(TWO, (step, step)[:1 + (step[0] != "edition")]), " then ".join(
-                [text] * (1 + (step[0] != "edition"))
-            ))
+            self.assertEqual(write_program(TWO, (step, ("read", 0, 0))), text + " then read 0 0")
 
     def test_rules(self):
         for fold, gap in RULES:
